@@ -1,0 +1,1 @@
+"""Handpromise: hands that work side by side, each held to a promise."""
