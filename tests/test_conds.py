@@ -5,16 +5,11 @@ import unittest
 from handpromise.conds import boxes_in, cond_of, holds, stands_of, steps_of, sum_of, value
 from handpromise.errors import NoCond, TooMany
 from handpromise.stands import stands
+from tests.helper import (
+    HUGE, NO, ONE, X, X_AFTER, Y, Y_AFTER, YES, left_leaning, number, row_of_nots, some_cond, some_sum, text_of,
+)
 
-HUGE = 10 ** 60 - 1
 BOXES = [("x", 1), ("y", 3)]
-X = ("box", 0)
-Y = ("box", 1)
-X_AFTER = ("after", 0)
-Y_AFTER = ("after", 1)
-YES = ("yes",)
-NO = ("not", YES)
-ONE = ("number", 1)
 
 # Things of which none is a condition or a sum.
 OTHER_KINDS = [
@@ -25,28 +20,10 @@ OTHER_KINDS = [
 ]
 
 
-def number(n):
-    return ("number", n)
-
-
-def row_of_nots(count, inner):
-    for unused in range(count):
-        inner = ("not", inner)
-    return inner
-
-
 def doubled(depth, word, inner):
     for unused in range(depth):
         inner = (word, inner, inner)
     return inner
-
-
-def left_leaning(word, count, inner):
-    # A tree with count inner parts and count + 1 leaves.
-    thing = inner
-    for unused in range(count):
-        thing = (word, thing, inner)
-    return thing
 
 
 # Thirty-nine parts.
@@ -348,32 +325,6 @@ class TestCountOfParts(Looking):
         self.no_cond([deep])
 
 
-def text_of(one):
-    # What a part means, as Python says it.
-    leaves = {"number": "{}", "box": "ahead[{}]", "after": "behind[{}]"}
-    if one[0] in leaves:
-        return leaves[one[0]].format(one[1])
-    signs = {
-        "plus": "({} + {})", "minus": "({} - {})", "is": "({} == {})", "less": "({} < {})", "not": "(not {})",
-        "both": "({} and {})", "either": "({} or {})", "yes": "True",
-    }
-    return signs[one[0]].format(*[text_of(inner) for inner in one[1:]])
-
-
-def some_sum(chance, depth):
-    if depth == 0 or chance.random() < 0.3:
-        return chance.choice([number(chance.randrange(4)), X, Y, X_AFTER, Y_AFTER])
-    return (chance.choice(["plus", "minus"]), some_sum(chance, depth - 1), some_sum(chance, depth - 1))
-
-
-def some_cond(chance, depth):
-    if depth == 0 or chance.random() < 0.2:
-        word = chance.choice(["is", "less"])
-        return (word, some_sum(chance, 2), some_sum(chance, 2))
-    word = chance.choice(["yes", "not", "both", "either"])
-    return (word,) + tuple(some_cond(chance, depth - 1) for unused in range({"yes": 0, "not": 1}.get(word, 2)))
-
-
 class TestValue(unittest.TestCase):
     def test_leaves(self):
         for n in (0, 1, 99):
@@ -458,10 +409,11 @@ class TestHolds(unittest.TestCase):
 
     def test_as_python_says_it(self):
         chance = random.Random(7)
+        leaves = [X, Y, X_AFTER, Y_AFTER]
         every = stands(BOXES)
         for unused in range(150):
-            cond = some_cond(chance, 3)
-            one = some_sum(chance, 3)
+            cond = some_cond(chance, leaves, 3)
+            one = some_sum(chance, leaves, 3)
             cond_code = compile(text_of(cond), "cond", "eval")
             sum_code = compile(text_of(one), "sum", "eval")
             for ahead in every:

@@ -37,6 +37,12 @@ TEXTS = {path.name: path.read_text(encoding="utf-8") for path in FILES}
 TREES = {name: ast.parse(text) for name, text in TEXTS.items()}
 NODES_OF = [(name, node) for name, tree in TREES.items() for node in ast.walk(tree)]
 
+WITH_PARENTS = [(name, node, parent) for name, parent in NODES_OF for node in ast.iter_child_nodes(parent)]
+
+
+def is_call_of(node, names):
+    return isinstance(node, ast.Call) and isinstance(node.func, ast.Name) and node.func.id in names
+
 
 def bound_names(tree):
     for node in ast.walk(tree):
@@ -109,6 +115,69 @@ class TestForm(unittest.TestCase):
             for node in ast.walk(tree):
                 if isinstance(node, ast.Name):
                     self.assertIn(node.id, bound | OWN_NAMES, file)
+
+    def test_l15_locals_are_not_called_like_imports_or_classes(self):
+        for file, tree in TREES.items():
+            imports = [alias.name for node in tree.body if isinstance(node, ast.ImportFrom) for alias in node.names]
+            at_top = imports + [node.name for node in tree.body if isinstance(node, (ast.FunctionDef, ast.ClassDef))]
+            at_top += [target.id for node in tree.body if isinstance(node, ast.Assign) for target in node.targets]
+            self.assertEqual(len(set(at_top)), len(at_top), file)
+            for node in ast.walk(tree):
+                if isinstance(node, ast.FunctionDef):
+                    own = set(bound_names(node)) - {node.name}
+                    self.assertEqual(own & set(at_top), set(), (file, node.name))
+
+    def test_l16_names_come_from_the_file_that_defines_them(self):
+        drawn = {}
+        for file, tree in TREES.items():
+            rows = [node for node in tree.body if isinstance(node, ast.ImportFrom)]
+            drawn[file] = [node.module.split(".")[1] + ".py" for node in rows]
+            for node, source in zip(rows, drawn[file]):
+                defined = {inner.name for inner in TREES[source].body if hasattr(inner, "name")}
+                assigned = [inner.targets[0].id for inner in TREES[source].body if isinstance(inner, ast.Assign)]
+                self.assertLessEqual({alias.name for alias in node.names}, defined | set(assigned), file)
+        # Each time, a file that draws from none of those left is taken away; a round would stay.
+        while drawn:
+            free = [file for file in drawn if not set(drawn[file]) & set(drawn)]
+            self.assertNotEqual(free, [])
+            drawn = {file: sources for file, sources in drawn.items() if file not in free}
+
+    def test_l19_errors(self):
+        own = [node.name for node in TREES["errors.py"].body if isinstance(node, ast.ClassDef)]
+        for name, node in NODES_OF:
+            if isinstance(node, ast.ExceptHandler):
+                taken = node.type.elts if isinstance(node.type, ast.Tuple) else [node.type]
+                for one in taken:
+                    self.assertIn(one.id, own + ["KeyError", "ZeroDivisionError", "StopIteration"], name)
+            if isinstance(node, ast.Raise):
+                self.assertIsInstance(node.exc, ast.Call, name)
+
+    def test_l20_is_beside_none_true_false_alone(self):
+        for name, node in NODES_OF:
+            if isinstance(node, ast.Compare) and any(isinstance(op, (ast.Is, ast.IsNot)) for op in node.ops):
+                beside = [side for side in [node.left] + node.comparators if isinstance(side, ast.Constant)]
+                self.assertTrue(any(side.value in (None, True, False) for side in beside), (name, node.lineno))
+
+    def test_l21_no_annotations(self):
+        for name, node in NODES_OF:
+            self.assertIsNone(getattr(node, "annotation", None), name)
+            self.assertIsNone(getattr(node, "returns", None), name)
+
+    def test_l23_walked_at_once(self):
+        walkers = ("list", "tuple", "dict", "sorted", "sum", "any", "all", "enumerate", "zip", "min", "max")
+        for name, node, parent in WITH_PARENTS:
+            if is_call_of(node, ("zip", "enumerate", "reversed", "range")):
+                walked = isinstance(parent, (ast.For, ast.comprehension)) and parent.iter is node
+                self.assertTrue(walked or is_call_of(parent, walkers), (name, node.lineno))
+
+    def test_l24_sets_are_not_kept(self):
+        for name, node, parent in WITH_PARENTS:
+            made = is_call_of(node, ("set",))
+            joined = isinstance(node, ast.BinOp) and any(is_call_of(side, ("set",)) for side in (node.left, node.right))
+            if made or joined:
+                asked = isinstance(parent, (ast.BinOp, ast.Compare)) or is_call_of(parent, ("sorted", "len"))
+                self.assertTrue(asked, (name, node.lineno))
+                self.assertEqual(getattr(parent, "keywords", []), [], (name, node.lineno))
 
     def test_l25_methods(self):
         classes = [node for name, node in NODES_OF if isinstance(node, ast.ClassDef)]

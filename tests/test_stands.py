@@ -4,27 +4,7 @@ import unittest
 
 from handpromise.errors import NoBoxes, TooMany
 from handpromise.stands import boxes_of, is_stand, stands
-
-HUGE = 10 ** 60 - 1
-# Things of which none is a list of boxes, a box, a name, a top or a stand.
-OTHER_KINDS = [
-    None, True, False, 0, -1, HUGE, 0.5, 1j, "", "x y", b"x", [], [1], {}, {"x": 1}, set(), {1}, frozenset(),
-    range(2), object(), int, len, float("nan"), iter([]),
-]
-
-
-def nested(depth, kind):
-    thing = kind()
-    for unused in range(depth):
-        thing = kind([thing])
-    return thing
-
-
-def doubled(depth):
-    thing = ()
-    for unused in range(depth):
-        thing = (thing, thing)
-    return thing
+from tests.helper import HUGE, OTHER_KINDS, doubled, nested
 
 
 class TestBoxesOf(unittest.TestCase):
