@@ -37,6 +37,8 @@ TEXTS = {path.name: path.read_text(encoding="utf-8") for path in FILES}
 TREES = {name: ast.parse(text) for name, text in TEXTS.items()}
 NODES_OF = [(name, node) for name, tree in TREES.items() for node in ast.walk(tree)]
 
+CLASSES = [node for name, node in NODES_OF if isinstance(node, ast.ClassDef)]
+OWN_METHODS = {inner.name for node in CLASSES for inner in node.body if isinstance(inner, ast.FunctionDef)}
 WITH_PARENTS = [(name, node, parent) for name, parent in NODES_OF for node in ast.iter_child_nodes(parent)]
 
 
@@ -179,12 +181,27 @@ class TestForm(unittest.TestCase):
                 self.assertTrue(asked, (name, node.lineno))
                 self.assertEqual(getattr(parent, "keywords", []), [], (name, node.lineno))
 
+    def test_l5_classes(self):
+        for node in CLASSES:
+            self.assertLessEqual(len(node.bases), 1, node.name)
+            self.assertLessEqual({type(inner) for inner in node.body}, {ast.FunctionDef, ast.Pass}, node.name)
+            names = [inner.name for inner in node.body if isinstance(inner, ast.FunctionDef)]
+            self.assertEqual(len(set(names)), len(names), node.name)
+
+    def test_l18_l26_methods_and_values(self):
+        values = {node.attr for name, node in NODES_OF if isinstance(node, ast.Attribute) and
+                  isinstance(node.ctx, ast.Store)}
+        self.assertEqual(values & OWN_METHODS, set())
+        taken = {name for kind in (str, int, list, dict, set, bytes) for name in dir(kind)}
+        self.assertEqual((values | OWN_METHODS - set(DUNDERS)) & taken, set())
+        for name, node in NODES_OF:
+            if isinstance(node, ast.Attribute) and isinstance(node.ctx, ast.Store):
+                self.assertEqual(node.value.id, "self", (name, node.lineno))
+
     def test_l25_methods(self):
-        classes = [node for name, node in NODES_OF if isinstance(node, ast.ClassDef)]
-        own = {inner.name for node in classes for inner in node.body if isinstance(inner, ast.FunctionDef)}
         for name, node in NODES_OF:
             if isinstance(node, ast.Call) and isinstance(node.func, ast.Attribute):
-                self.assertIn(node.func.attr, METHODS | own, name)
+                self.assertIn(node.func.attr, METHODS | OWN_METHODS, name)
 
 
 if __name__ == "__main__":

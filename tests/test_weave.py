@@ -6,7 +6,8 @@ from handpromise.houses import house_of
 from handpromise.stands import stands
 from handpromise.weave import all_states, ends, gone, stuck, weaving_to, woven
 from tests.helper import (
-    HUGE, NO, ONE, OTHER_KINDS, X, Y, YES, deep_kinds, lists_in, number, reckoned, some_parts, stand_behind,
+    HUGE, NO, ONE, OTHER_KINDS, X, Y, YES, deep_kinds, depths_of, lists_in, number, put, some_parts, starts_of, step_on,
+    steps_on, up, wait,
 )
 
 NOUGHT = number(0)
@@ -18,18 +19,6 @@ def house(begin, hands, boxes=BOXES):
     return house_of(boxes, begin, hands, [YES] * len(hands), notes)
 
 
-def up(box, place):
-    return (YES, ((box, ("plus", ("box", box), ONE)),), place)
-
-
-def put(box, n, place):
-    return (YES, ((box, number(n)),), place)
-
-
-def wait(box, n, place):
-    return (("is", ("box", box), number(n)), (), place)
-
-
 # The first hand opens the door, by one way or two; the second waits for it, and comes to its end behind it.
 DOOR = house(
     ("is", ("plus", X, Y), NOUGHT),
@@ -37,36 +26,7 @@ DOOR = house(
 )
 
 
-# What is promised of weavings, once more.
-
-def step_on(whole, state, step):
-    boxes, unused, hands = whole[:3]
-    stand, places = state
-    hand, way = step
-    if hand not in range(len(hands)) or places[hand] not in range(len(hands[hand])):
-        return None
-    if way not in range(len(hands[hand][places[hand]])):
-        return None
-    chosen = hands[hand][places[hand]][way]
-    further = stand_behind(boxes, chosen, stand)
-    if further is None:
-        return None
-    return further, tuple(chosen[2] if k == hand else place for k, place in enumerate(places))
-
-
-def steps_on(whole, state):
-    found = []
-    for hand in range(len(whole[2])):
-        for way in range(4):
-            further = step_on(whole, state, (hand, way))
-            if further is not None:
-                found.append(((hand, way), further))
-    return found
-
-
-def starts_of(whole):
-    return [stand for stand in stands(whole[0]) if reckoned(whole[1], stand)]
-
+# All states, once more.
 
 def rows_of(whole):
     rows = [((start, (0,) * len(whole[2])), None, None) for start in starts_of(whole)]
@@ -76,18 +36,6 @@ def rows_of(whole):
                 if further not in [row[0] for row in rows]:
                     rows.append((further, number_of_row, step))
     return rows
-
-
-def depths_of(whole):
-    # How many steps the shortest weaving to each state has: rings around the starts.
-    ring = {(start, (0,) * len(whole[2])) for start in starts_of(whole)}
-    found = {}
-    depth = 0
-    while ring:
-        found.update({state: depth for state in ring})
-        depth += 1
-        ring = {further for state in ring for step, further in steps_on(whole, state)} - set(found)
-    return found
 
 
 HOUSES = [house_of(*some_parts(seed)) for seed in range(80)]
