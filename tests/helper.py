@@ -8,6 +8,7 @@ import random
 HUGE = 10 ** 60 - 1
 X = ("box", 0)
 Y = ("box", 1)
+Z = ("box", 2)
 X_AFTER = ("after", 0)
 Y_AFTER = ("after", 1)
 ONE = ("number", 1)
@@ -23,6 +24,25 @@ OTHER_KINDS = [
 
 def number(n):
     return ("number", n)
+
+
+# What is no plain condition, and no plain sum, for two boxes x and y.
+NO_CONDS = [
+    (), ONE, X, ("plus", X, Y), ["yes"], ("Yes",), ("no",), ("yes", YES), ("is", X), ("is", X, Y, X), ("not",),
+    ("nor", YES, YES), ("both", YES, X), ("either", None, YES), ("is", X, YES), ("is", ["box", 0], X), ("is", X, Z),
+    ("is", ("box", -1), X), ("less", X, number(100)), ("less", X, number(-1)), ("less", number(True), X),
+    ("is", ("box", False), X), ("is", X, X_AFTER), ("not", ("less", Y_AFTER, X)), ("is", X, number(HUGE)),
+]
+NO_SUMS = [
+    (), YES, NO, ("is", X, Y), ["box", 0], ("times", X, Y), ("plus", X), ("plus", X, Y, X), ("minus", X, None),
+    ("number",), ("number", 1, 1), Z, ("box", -1), ("box", HUGE), ("box", True), ("box", "x"), number(100), number(-1),
+    number(HUGE), number(-HUGE), number(True), number("1"), number(1.0), X_AFTER, Y_AFTER, ("plus", X, Y_AFTER),
+    ("minus", ("minus", X_AFTER, X), X), ("plus", X, ["box", 0]),
+]
+
+
+def without(things, kept):
+    return [thing for thing in things if isinstance(thing, bool) or thing != kept]
 
 
 def nested(depth, kind):
@@ -256,6 +276,16 @@ def depths_of(whole):
         depth += 1
         ring = {further for state in ring for step, further in steps_on(whole, state)} - set(found)
     return found
+
+
+def stands_at_end(boxes, hand, stand):
+    # The stands in which a hand alone, from a stand, comes to its end.
+    found = {(stand, (0,))}
+    ring = set(found)
+    while ring:
+        ring = {further for state in ring for step, further in steps_on((boxes, None, [hand]), state)} - found
+        found |= ring
+    return sorted(stand for stand, places in found if places == (len(hand),))
 
 
 def breaks_in(whole, state):

@@ -46,6 +46,14 @@ def is_call_of(node, names):
     return isinstance(node, ast.Call) and isinstance(node.func, ast.Name) and node.func.id in names
 
 
+def is_plain_value(node):
+    if isinstance(node, (ast.List, ast.Tuple)):
+        return all(is_plain_value(inner) for inner in node.elts)
+    if isinstance(node, ast.Dict):
+        return all(is_plain_value(inner) for inner in node.keys + node.values)
+    return isinstance(node, ast.Constant)
+
+
 def bound_names(tree):
     for node in ast.walk(tree):
         if isinstance(node, (ast.FunctionDef, ast.ClassDef)):
@@ -202,6 +210,59 @@ class TestForm(unittest.TestCase):
         for name, node in NODES_OF:
             if isinstance(node, ast.Call) and isinstance(node.func, ast.Attribute):
                 self.assertIn(node.func.attr, METHODS | OWN_METHODS, name)
+
+    def test_l3_l15_the_top_of_a_file(self):
+        kept = set()
+        for name, tree in TREES.items():
+            for node in tree.body[1:] if ast.get_docstring(tree) else tree.body:
+                self.assertIsInstance(node, (ast.ImportFrom, ast.FunctionDef, ast.ClassDef, ast.Assign), name)
+                if isinstance(node, ast.Assign):
+                    self.assertTrue(is_plain_value(node.value), (name, node.lineno))
+                    if isinstance(node.value, (ast.List, ast.Dict)):
+                        kept.add(node.targets[0].id)
+                        lists = [one for one in ast.walk(node.value) if isinstance(one, (ast.List, ast.Dict))]
+                        self.assertEqual(lists, [node.value], (name, node.lineno))
+        # What is kept in lists and dicts there is only read.
+        self.assertNotEqual(kept, set())
+        for name, node, parent in WITH_PARENTS:
+            if isinstance(node, ast.Name) and node.id in kept and isinstance(node.ctx, ast.Load):
+                where = (name, node.lineno, node.id)
+                if isinstance(parent, ast.Subscript):
+                    self.assertIsInstance(parent.ctx, ast.Load, where)
+                elif isinstance(parent, ast.Attribute):
+                    self.assertIn(parent.attr, ("get", "items", "keys", "values"), where)
+                else:
+                    self.assertIsInstance(parent, (ast.For, ast.comprehension, ast.Compare), where)
+
+    def test_l22_names_of_python_s_own_are_called(self):
+        keywords = {"sorted": ("key", "reverse"), "min": ("key", "default"), "max": ("key", "default"),
+                    "sum": ("start",), "enumerate": ("start",), "zip": ("strict",)}
+        kinds = ("int", "str", "bool", "list", "tuple", "dict")
+        for name, node, parent in WITH_PARENTS:
+            if isinstance(node, ast.Call):
+                known = keywords.get(getattr(node.func, "id", None), ())
+                self.assertLessEqual({one.arg for one in node.keywords}, set(known), (name, node.lineno))
+            if isinstance(node, ast.Name) and node.id in OWN_NAMES:
+                called = isinstance(parent, ast.Call) and parent.func is node
+                asked = node.id in kinds and (isinstance(parent, ast.Tuple) or is_call_of(parent, ("isinstance",)))
+                self.assertTrue(called or asked or isinstance(parent, ast.ClassDef), (name, node.lineno, node.id))
+
+    def test_l27_numbers_and_texts(self):
+        for name, node in NODES_OF:
+            if isinstance(node, ast.Constant) and isinstance(node.value, str):
+                self.assertNotIn("%", node.value, (name, node.lineno))
+            if isinstance(node, ast.FormattedValue):
+                self.assertIsInstance(node.value, ast.Name, (name, node.lineno))
+            if isinstance(node, ast.BinOp) and isinstance(node.op, ast.Pow):
+                self.assertIsInstance(node.right, ast.Constant, (name, node.lineno))
+        for name, text in TEXTS.items():
+            self.assertEqual(re.findall(r"\\[^nt\\'\"]", text), [], name)
+
+    def test_l28_init_gives_back_nothing(self):
+        for name, node in NODES_OF:
+            if isinstance(node, ast.FunctionDef) and node.name in DUNDERS:
+                self.assertEqual(node.name, "__init__", name)
+                self.assertEqual([one for one in ast.walk(node) if isinstance(one, ast.Return)], [], name)
 
 
 if __name__ == "__main__":

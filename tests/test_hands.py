@@ -6,31 +6,13 @@ from handpromise.errors import NoHand
 from handpromise.hands import behind, hand_of, reads, ways_at, writes
 from handpromise.stands import stands
 from tests.helper import (
-    HUGE, NO, ONE, OTHER_KINDS, X, X_AFTER, Y, Y_AFTER, YES, deep_kinds, left_leaning, lists_in, number, row_of_nots,
-    some_boxes, some_hand, stand_behind,
+    HUGE, NO, NO_CONDS, NO_SUMS, ONE, OTHER_KINDS, X, Y, YES, Z, deep_kinds, left_leaning, lists_in, number,
+    row_of_nots, some_boxes, some_hand, stand_behind, without,
 )
 
 BOXES = [("x", 1), ("y", 3)]
-Z = ("box", 2)
 STAY = (YES, (), 0)
 FULL = (("less", X, Y), ((0, ("minus", Y, ONE)), (1, X)), 1)
-
-NO_CONDS = [
-    (), ONE, X, ("plus", X, Y), ["yes"], ("Yes",), ("no",), ("yes", YES), ("is", X), ("is", X, Y, X), ("not",),
-    ("nor", YES, YES), ("both", YES, X), ("either", None, YES), ("is", X, YES), ("is", ["box", 0], X), ("is", X, Z),
-    ("is", ("box", -1), X), ("less", X, number(100)), ("less", X, number(-1)), ("less", number(True), X),
-    ("is", ("box", False), X), ("is", X, X_AFTER), ("not", ("less", Y_AFTER, X)), ("is", X, number(HUGE)),
-]
-NO_SUMS = [
-    (), YES, NO, ("is", X, Y), ["box", 0], ("times", X, Y), ("plus", X), ("plus", X, Y, X), ("minus", X, None),
-    ("number",), ("number", 1, 1), Z, ("box", -1), ("box", HUGE), ("box", True), ("box", "x"), number(100), number(-1),
-    number(HUGE), number(-HUGE), number(True), number("1"), number(1.0), X_AFTER, Y_AFTER, ("plus", X, Y_AFTER),
-    ("minus", ("minus", X_AFTER, X), X), ("plus", X, ["box", 0]),
-]
-
-
-def without(things, kept):
-    return [thing for thing in things if isinstance(thing, bool) or thing != kept]
 
 
 class TestHandsLetBy(unittest.TestCase):

@@ -1,14 +1,17 @@
-"""The promise as a whole: what papers, verdicts, exchanges and trades say of all weavings."""
+"""The promise as a whole: what papers, verdicts, exchanges and trades say of all weavings; and the same at a desk."""
 
 import random
 import unittest
 
+from handpromise.desk import Desk
 from handpromise.houses import house_of
 from handpromise.papers import look_house, looked
+from handpromise.programs import comes_to, made
+from handpromise.texts import read_house, shown_house
 from handpromise.trades import alike, least
 from handpromise.verdicts import broken, exchanged, judged
 from handpromise.weakest import road, weakest
-from handpromise.weave import woven
+from handpromise.weave import all_states, ends, woven
 from tests.helper import (
     NO, YES, breaks_in, depths_of, every_stand, leads_to_its_break, reckoned, some_hand, some_parts, some_weaving,
     starts_of, tame_parts, task_of, ways_on,
@@ -168,6 +171,108 @@ class TestTrades(unittest.TestCase):
                 self.assertEqual(woven(whole, starts[0], form)[-1], woven(whole, starts[0], one)[-1])
                 seen[same] += 1
         self.assertGreater(min(seen.values()), 20)
+
+
+# How a house is asked and woven at a desk.
+
+NAMES = ["p", "q", "r"]
+
+
+def desk_of(whole):
+    return Desk(shown_house(whole, NAMES[:len(whole[2])]))
+
+
+def shown(*numbers):
+    return " ".join(map(str, numbers))
+
+
+def may_rows(state):
+    stand, places = state
+    return ["may " + shown(name, place, *stand) for name, place in zip(NAMES, places)]
+
+
+def state_said(desk):
+    stand, places = desk.say("state").split(" / ")
+    return tuple(map(int, stand.split())), tuple(map(int, places.split()))
+
+
+class TestDesks(unittest.TestCase):
+    def good_houses(self):
+        found = [whole for whole in HOUSES if judged(whole)[0] == "good"]
+        self.assertGreater(len(found), 30)
+        return found
+
+    def test_may_is_yes_in_each_state_of_a_good_house(self):
+        for whole in self.good_houses():
+            desk = desk_of(whole)
+            self.assertEqual((desk.say("judge"), desk.say("broken")), ("good", "no"))
+            states = list(depths_of(whole))
+            self.assertEqual(desk.say("states"), str(len(states)))
+            for state in states:
+                self.assertEqual([desk.say(row) for row in may_rows(state)], ["yes"] * len(state[1]))
+
+    def test_a_good_house_is_not_broken_by_what_is_woven(self):
+        chance = random.Random(8)
+        for whole in self.good_houses():
+            desk = desk_of(whole)
+            for start in starts_of(whole):
+                desk.say("start " + shown(*start))
+                for hand, way in some_weaving(chance, whole, start, 15):
+                    desk.say("step " + shown(NAMES[hand], way))
+                    state = state_said(desk)
+                    self.assertEqual(breaks_in(whole, state), [])
+                    self.assertEqual([desk.say(row) for row in may_rows(state)], ["yes"] * len(state[1]))
+            self.assertEqual(desk.say("broken"), "no")
+
+    def test_a_break_told_is_woven(self):
+        seen = {"note": 0, "promise": 0}
+        for whole in HOUSES:
+            desk = desk_of(whole)
+            told = desk.say("broken").split(" ")
+            if told != ["no"]:
+                self.assertEqual(desk.say("judge").split(" ")[0], "spoiled")
+                seen[told[0]] += 1
+                at = told.index("from") + 1
+                steps = at + len(whole[0])
+                self.assertEqual(desk.say("start " + shown(*told[at:steps])), "ok")
+                for step in told[steps:]:
+                    self.assertEqual(desk.say("step " + step.replace(":", " ")), "ok")
+                ending = (told[0], NAMES.index(told[1])) + tuple(map(int, told[2:at - 1]))
+                self.assertIn(ending, breaks_in(whole, state_said(desk)))
+        self.assertGreater(min(seen.values()), 5)
+
+    def test_spoiled_where_may_is_no(self):
+        for whole in HOUSES:
+            desk = desk_of(whole)
+            lacking = [(name, start) for name in NAMES[:len(whole[2])] for start in starts_of(whole)
+                       if desk.say("may " + shown(name, 0, *start)) == "no"]
+            told = "spoiled " + shown(lacking[0][0], *lacking[0][1]) if lacking else "good"
+            self.assertEqual(desk.say("judge"), told)
+
+    def test_papers_of_a_house_read(self):
+        for whole in self.good_houses():
+            house, names = read_house(shown_house(whole, NAMES[:len(whole[2])]))
+            told = judged(house)
+            self.assertEqual(told, judged(whole))
+            self.assertIsNone(look_house(house, told[1]))
+
+
+class TestPrograms(unittest.TestCase):
+    def test_the_hand_made_comes_in_a_house_where_the_program_comes(self):
+        one, x, y = ("number", 1), ("box", 0), ("box", 1)
+        up, down = ("put", ((1, ("plus", y, one)),)), ("put", ((1, ("minus", y, one)),))
+        wait = ("wait", ("less", x, y), ((0, y),))
+        boxes = [("x", 2), ("y", 2)]
+        for program in ([], [up], [up, wait], [("choose", [[up], [down], []]), ("loop", 2, [wait])],
+                        [("loop", 2, [("choose", [[up, wait], [down]])])], [wait, wait]):
+            hand = made(boxes, program)
+            for stand in every_stand(boxes):
+                begin = ("both", ("is", x, ("number", stand[0])), ("is", y, ("number", stand[1])))
+                whole = house_of(boxes, begin, [hand], [YES], [[YES] * (len(hand) + 1)])
+                rows = all_states(whole)
+                come = sorted(rows[number][0][0] for number in ends(whole))
+                self.assertEqual(comes_to(boxes, program, stand), come)
+                self.assertEqual(desk_of(whole).say("judge"), "good")
 
 
 if __name__ == "__main__":
